@@ -1,13 +1,12 @@
 package scout
 
-import "slices"
+import (
+	"maps"
+	"slices"
 
-// document is what is known of a document beside where its words stand.
-type document struct {
-	number int
-	key    string
-	length int
-}
+	"scout/document"
+	"scout/segment"
+)
 
 // place tells of a word that a document has it, and how often.
 type place struct {
@@ -15,10 +14,10 @@ type place struct {
 	count  int
 }
 
-// buffer holds live documents that are in no segment. The documents, and the
+// buffer holds documents that are in no segment yet. The documents, and the
 // places of each word, stand by rising number; no word is without a place.
 type buffer struct {
-	documents []document
+	documents []document.Document
 	words     map[string][]place
 }
 
@@ -27,10 +26,10 @@ func newBuffer() buffer {
 }
 
 // add takes a document whose number is greater than that of all before it.
-func (b *buffer) add(d document, words []string) {
+func (b *buffer) add(d document.Document, words []string) {
 	b.documents = append(b.documents, d)
 	for _, word := range words {
-		b.words[word] = countOne(b.words[word], d.number)
+		b.words[word] = countOne(b.words[word], d.Number)
 	}
 }
 
@@ -47,8 +46,8 @@ func countOne(places []place, number int) []place {
 
 // drop takes a document out; one that is not in the buffer changes nothing.
 func (b *buffer) drop(number int) {
-	b.documents = slices.DeleteFunc(b.documents, func(d document) bool {
-		return d.number == number
+	b.documents = slices.DeleteFunc(b.documents, func(d document.Document) bool {
+		return d.Number == number
 	})
 	for word, places := range b.words {
 		rest := slices.DeleteFunc(places, func(p place) bool {
@@ -60,4 +59,53 @@ func (b *buffer) drop(number int) {
 		}
 		b.words[word] = rest
 	}
+}
+
+// take takes those documents of a segment that are wanted. Their numbers are
+// greater than those of all before them.
+func (b *buffer) take(c segment.Content, isWanted func(document.Document) bool) {
+	for _, d := range c.Documents {
+		if isWanted(d) {
+			b.documents = append(b.documents, d)
+		}
+	}
+	for _, list := range c.Lists {
+		for _, p := range list.Places {
+			if d := c.Documents[p.Ordinal]; isWanted(d) {
+				b.words[list.Token] = append(b.words[list.Token], place{number: d.Number, count: p.Count})
+			}
+		}
+	}
+}
+
+// empty takes all documents out.
+func (b *buffer) empty() {
+	clear(b.documents)
+	b.documents = b.documents[:0]
+	clear(b.words)
+}
+
+// written tells the documents as a list of segments: one, or none if there are
+// no documents.
+func (b *buffer) written() []string {
+	if len(b.documents) == 0 {
+		return nil
+	}
+	return []string{segment.Write(b.content())}
+}
+
+func (b *buffer) content() segment.Content {
+	ordinals := make(map[int]int, len(b.documents))
+	for ordinal, d := range b.documents {
+		ordinals[d.Number] = ordinal
+	}
+	c := segment.Content{Documents: b.documents}
+	for _, word := range slices.Sorted(maps.Keys(b.words)) {
+		list := segment.List{Token: word}
+		for _, p := range b.words[word] {
+			list.Places = append(list.Places, segment.Place{Ordinal: ordinals[p.number], Count: p.count})
+		}
+		c.Lists = append(c.Lists, list)
+	}
+	return c
 }

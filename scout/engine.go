@@ -3,14 +3,17 @@ package scout
 import (
 	"strings"
 
+	"scout/document"
+	"scout/segment"
 	"scout/tokens"
 )
 
 // Engine keeps documents.
 type Engine struct {
-	added  int            // how many ever; the newest document has this number
-	live   map[string]int // the number of each key's live document
-	buffer buffer
+	added    int            // how many ever; the newest document has this number
+	live     map[string]int // the number of each key's live document
+	buffer   buffer         // live documents alone
+	segments []string       // the bytes of each, the oldest first
 }
 
 // New makes an engine (P5).
@@ -20,17 +23,17 @@ func New() *Engine {
 
 // Add adds a document (P5).
 func (e *Engine) Add(key string, text string) Errno {
-	if !isKey(key) {
+	if !document.IsKey(key) {
 		return ErrKey
 	}
 	if len(text) > maxText {
 		return ErrLong
 	}
 	words := tokens.Split(text)
-	if len(words) > maxTokens {
+	if len(words) > document.MaxTokens {
 		return ErrTokens
 	}
-	if e.added >= maxDocs {
+	if e.added >= document.MaxDocs {
 		return ErrFull
 	}
 	e.retire(key)
@@ -40,7 +43,7 @@ func (e *Engine) Add(key string, text string) Errno {
 
 // Delete deletes a document (P5).
 func (e *Engine) Delete(key string) Errno {
-	if !isKey(key) {
+	if !document.IsKey(key) {
 		return ErrKey
 	}
 	if !e.retire(key) {
@@ -55,16 +58,37 @@ func (e *Engine) Count() int {
 }
 
 // Segments tells how many segments there are (P6).
-func (e *Engine) Segments() int { return 0 }
+func (e *Engine) Segments() int {
+	return len(e.segments)
+}
 
 // Flush writes the buffer into a segment (P6).
-func (e *Engine) Flush() {}
+func (e *Engine) Flush() {
+	e.segments = append(e.segments, e.buffer.written()...)
+	e.buffer.empty()
+}
 
-// Merge makes all segments one (P6).
-func (e *Engine) Merge() {}
+// Merge makes all segments one (P6). As a later segment has greater numbers,
+// their documents come together in the order of their numbers.
+func (e *Engine) Merge() {
+	merged := newBuffer()
+	for _, text := range e.segments {
+		content, err := segment.Read(text)
+		if err != nil {
+			return // Not to be: the engine wrote these bytes itself. Nothing has changed yet.
+		}
+		merged.take(content, e.isLive)
+	}
+	e.segments = merged.written()
+}
 
 // Dump tells the bytes of a segment (P6).
-func (e *Engine) Dump(segment int) (string, Errno) { return "", OK }
+func (e *Engine) Dump(segment int) (string, Errno) {
+	if segment < 0 || segment >= len(e.segments) {
+		return "", ErrArg
+	}
+	return e.segments[segment], OK
+}
 
 // Search finds the best documents (P7).
 func (e *Engine) Search(way int, words string, k int) (string, int, Errno) { return "", 0, OK }
@@ -75,7 +99,7 @@ func (e *Engine) put(key string, words []string) {
 	key = strings.Clone(key)
 	e.added++
 	e.live[key] = e.added
-	e.buffer.add(document{number: e.added, key: key, length: len(words)}, words)
+	e.buffer.add(document.Document{Number: e.added, Key: key, Length: len(words)}, words)
 }
 
 // retire makes the live document with this key live no more, and tells
@@ -90,18 +114,7 @@ func (e *Engine) retire(key string) bool {
 	return true
 }
 
-func isKey(key string) bool {
-	if len(key) < 1 || len(key) > maxKey {
-		return false
-	}
-	for _, b := range []byte(key) {
-		if !isKeyByte(b) {
-			return false
-		}
-	}
-	return true
-}
-
-func isKeyByte(b byte) bool {
-	return 'a' <= b && b <= 'z' || '0' <= b && b <= '9'
+// isLive tells of a document that was added whether it is live still.
+func (e *Engine) isLive(d document.Document) bool {
+	return e.live[d.Key] == d.Number
 }

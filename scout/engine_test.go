@@ -272,7 +272,7 @@ func TestManyCalls(t *testing.T) {
 	}
 }
 
-// The calls that answer nothing yet end all the same, whatever they are given.
+// Every call ends, whatever it is given.
 func TestNoCallPanics(t *testing.T) {
 	const most = int(^uint(0) >> 1)
 	for _, e := range []*Engine{New(), full(t)} {

@@ -22,12 +22,7 @@ const (
 	ErrCorrupt Errno = 8 // no segment
 )
 
-const (
-	maxKey    = 8   // bytes of a key
-	maxText   = 200 // bytes of a text
-	maxTokens = 40  // of a document
-	maxDocs   = 100 // that an engine ever takes
-)
+const maxText = 200 // bytes of a text
 
 // Tokens tells the tokens of a text (P3).
 func Tokens(text string) (string, Errno) {
@@ -36,6 +31,3 @@ func Tokens(text string) (string, Errno) {
 	}
 	return strings.Join(tokens.Split(text), " "), OK
 }
-
-// Open tells what is in a segment (P4).
-func Open(segment string) (string, Errno) { return "", OK }

@@ -64,6 +64,9 @@ func TestTooLongIsToldByLength(t *testing.T) {
 		if s, errno := Tokens(long); s != "" || errno != ErrLong {
 			t.Fatalf("P1: Tokens = %.40q, %d", s, errno)
 		}
+		if s, errno := Open(long); s != "" || errno != ErrLong {
+			t.Fatalf("P1: Open = %.40q, %d", s, errno)
+		}
 		if errno := e.Add("k", long); errno != ErrLong {
 			t.Fatalf("P1: Add = %d", errno)
 		}

@@ -17,6 +17,12 @@ func Split(text string) []string {
 	return found
 }
 
+// IsToken tells whether a text is a token: it is cut into itself alone.
+func IsToken(text string) bool {
+	found := Split(text)
+	return len(found) == 1 && found[0] == text
+}
+
 // fromRun writes letter by letter, even where all of them are small already:
 // a token that were a piece of the text would keep the whole text alive.
 func fromRun(run string) string {

@@ -106,3 +106,34 @@ func TestLongRuns(t *testing.T) {
 	check(t, "ÀÁÂÃÄÅÆÇÈÉÊ", "àáâãäåæçèé")
 	check(t, "xÀxÀxÀxÀxÀx", "xàxàxàxàxà")
 }
+
+func checkToken(t *testing.T, text string, want bool) {
+	t.Helper()
+	if got := IsToken(text); got != want {
+		t.Errorf("P4: IsToken(%q) = %t", text, got)
+	}
+}
+
+func TestTokensOfEveryCodePoint(t *testing.T) {
+	for r := rune(0); r <= utf8.MaxRune; r++ {
+		want := strings.ContainsRune(smallForms, r) && r != utf8.RuneError
+		checkToken(t, "7"+string(r), want)
+		checkToken(t, string(r)+"7", want)
+	}
+}
+
+func TestTokensAndOthers(t *testing.T) {
+	for _, text := range []string{"x", "0", "abcdefghij", "àáâãäåæçèé", "ß", "ÿ", "th", "them", "àn"} {
+		checkToken(t, text, true)
+	}
+	for _, text := range []string{
+		"", " ", "x ", " x", "x y", "X", "xY", "À", "abcdefghijk", "àáâãäåæçèéê", strings.Repeat("x", 255),
+		"a", "an", "and", "in", "is", "of", "the", "to", "the x", "x the", "the the",
+		"\xff", "x\xff", "\xc3", "x\xc3", "\xa0", "×", "÷", "x÷",
+	} {
+		checkToken(t, text, false)
+	}
+	for _, token := range Split("The Quick, quick fox's 3 of ÀÉ! abcdefghijklm") {
+		checkToken(t, token, true)
+	}
+}
