@@ -1,6 +1,7 @@
 package scout
 
 import (
+	"cmp"
 	"maps"
 	"slices"
 
@@ -95,17 +96,27 @@ func (b *buffer) written() []string {
 }
 
 func (b *buffer) content() segment.Content {
-	ordinals := make(map[int]int, len(b.documents))
-	for ordinal, d := range b.documents {
-		ordinals[d.Number] = ordinal
-	}
 	c := segment.Content{Documents: b.documents}
 	for _, word := range slices.Sorted(maps.Keys(b.words)) {
-		list := segment.List{Token: word}
-		for _, p := range b.words[word] {
-			list.Places = append(list.Places, segment.Place{Ordinal: ordinals[p.number], Count: p.count})
-		}
-		c.Lists = append(c.Lists, list)
+		c.Lists = append(c.Lists, segment.List{Token: word, Places: b.places(word)})
 	}
 	return c
+}
+
+// places tells where a word stands, by the ordinals that the documents have in
+// the buffer.
+func (b *buffer) places(word string) []segment.Place {
+	var found []segment.Place
+	for _, p := range b.words[word] {
+		found = append(found, segment.Place{Ordinal: b.ordinal(p.number), Count: p.count})
+	}
+	return found
+}
+
+// ordinal tells the ordinal of a document that is in the buffer.
+func (b *buffer) ordinal(number int) int {
+	at, _ := slices.BinarySearchFunc(b.documents, number, func(d document.Document, number int) int {
+		return cmp.Compare(d.Number, number)
+	})
+	return at
 }

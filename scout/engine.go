@@ -90,9 +90,6 @@ func (e *Engine) Dump(segment int) (string, Errno) {
 	return e.segments[segment], OK
 }
 
-// Search finds the best documents (P7).
-func (e *Engine) Search(way int, words string, k int) (string, int, Errno) { return "", 0, OK }
-
 // put makes a document with the next number. It keeps a copy of the key, which
 // may be a piece of a longer text that would else be kept alive with it.
 func (e *Engine) put(key string, words []string) {

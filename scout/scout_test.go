@@ -76,6 +76,9 @@ func TestTooLongIsToldByLength(t *testing.T) {
 		if errno := e.Delete(long); errno != ErrKey {
 			t.Fatalf("P1: Delete = %d", errno)
 		}
+		if s, n, errno := e.Search(0, long, 1); s != "" || n != 0 || errno != ErrLong {
+			t.Fatalf("P1: Search = %.40q, %d, %d", s, n, errno)
+		}
 		if time.Since(start) > 10*time.Second {
 			t.Fatal("P1: a text that is too long is worked on")
 		}

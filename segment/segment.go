@@ -3,7 +3,12 @@
 // alone, and nothing else is read.
 package segment
 
-import "scout/document"
+import (
+	"slices"
+	"strings"
+
+	"scout/document"
+)
 
 const (
 	MaxBytes = 60000 // of a text that is read
@@ -31,6 +36,17 @@ type List struct {
 type Place struct {
 	Ordinal int
 	Count   int
+}
+
+// Places tells where a token stands: nowhere, if no document has it.
+func (c Content) Places(token string) []Place {
+	at, found := slices.BinarySearchFunc(c.Lists, token, func(list List, token string) int {
+		return strings.Compare(list.Token, token)
+	})
+	if !found {
+		return nil
+	}
+	return c.Lists[at].Places
 }
 
 // head is what a block tells of itself ahead of its places.

@@ -134,3 +134,26 @@ func TestVarints(t *testing.T) {
 		}
 	}
 }
+
+func TestPlaces(t *testing.T) {
+	c := threeContent()
+	for token, want := range map[string]string{
+		"blue": "[{0 1} {1 1}]", "green": "[{2 1}]", "red": "[{0 2}]",
+		"": "[]", "a": "[]", "blu": "[]", "bluer": "[]", "grey": "[]", "zoo": "[]", "Red": "[]", "é": "[]",
+	} {
+		if got := fmt.Sprint(c.Places(token)); got != want {
+			t.Errorf("P7: %q stands at %s, want %s", token, got, want)
+		}
+	}
+	if got := contentOf(model{1, "k", ""}).Places("red"); len(got) != 0 {
+		t.Errorf("P7: where there is no token, one stands at %v", got)
+	}
+	for seed := range 50 {
+		c := drawn(seed)
+		for _, list := range c.Lists {
+			if got := c.Places(list.Token); fmt.Sprint(got) != fmt.Sprint(list.Places) {
+				t.Errorf("P7: %q stands at %v, want %v", list.Token, got, list.Places)
+			}
+		}
+	}
+}
