@@ -98,19 +98,19 @@ func (b *buffer) written() []string {
 func (b *buffer) content() segment.Content {
 	c := segment.Content{Documents: b.documents}
 	for _, word := range slices.Sorted(maps.Keys(b.words)) {
-		c.Lists = append(c.Lists, segment.List{Token: word, Places: b.places(word)})
+		c.Lists = append(c.Lists, b.list(word))
 	}
 	return c
 }
 
-// places tells where a word stands, by the ordinals that the documents have in
-// the buffer.
-func (b *buffer) places(word string) []segment.Place {
-	var found []segment.Place
+// list tells where a word stands, by the ordinals that the documents have in the
+// buffer, cut into the blocks that a segment of them would have.
+func (b *buffer) list(word string) segment.List {
+	var places []segment.Place
 	for _, p := range b.words[word] {
-		found = append(found, segment.Place{Ordinal: b.ordinal(p.number), Count: p.count})
+		places = append(places, segment.Place{Ordinal: b.ordinal(p.number), Count: p.count})
 	}
-	return found
+	return segment.ListOf(word, places, b.documents)
 }
 
 // ordinal tells the ordinal of a document that is in the buffer.

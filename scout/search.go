@@ -10,15 +10,11 @@ import (
 	"scout/tokens"
 )
 
-const (
-	lastWay  = 2 // the ways are numbered from 0 on
-	maxTerms = 6 // different tokens of a question
-)
+const maxTerms = 6 // different tokens of a question
 
-// Search finds the best documents (P7). Ways 1 and 2 go through all, as way 0
-// does.
+// Search finds the best documents (P7).
 func (e *Engine) Search(way int, words string, k int) (string, int, Errno) {
-	if way < 0 || way > lastWay {
+	if way < search.Through || way > search.OverBlocks {
 		return "", 0, ErrArg
 	}
 	if len(words) > maxText {
@@ -28,14 +24,11 @@ func (e *Engine) Search(way int, words string, k int) (string, int, Errno) {
 	if len(terms) > maxTerms {
 		return "", 0, ErrTerms
 	}
-	if k <= 0 {
-		return "", 0, OK
-	}
 	parts, err := e.parts()
 	if err != nil {
 		return "", 0, errnoOf(err) // Not to be: the engine wrote these bytes itself.
 	}
-	hits, rated := search.Best(parts, terms, e.isLive, k)
+	hits, rated := search.Best(parts, e.isLive, search.Question{Way: way, Tokens: terms, Most: k})
 	return hitList(hits), rated, OK
 }
 
@@ -48,13 +41,13 @@ func termsOf(words string) []string {
 
 // parts tells what is searched: the buffer and each segment.
 func (e *Engine) parts() ([]search.Part, error) {
-	parts := []search.Part{{Documents: e.buffer.documents, Places: e.buffer.places}}
+	parts := []search.Part{{Documents: e.buffer.documents, List: e.buffer.list}}
 	for _, text := range e.segments {
 		content, err := segment.Read(text)
 		if err != nil {
 			return nil, err
 		}
-		parts = append(parts, search.Part{Documents: content.Documents, Places: content.Places})
+		parts = append(parts, search.Part{Documents: content.Documents, List: content.List})
 	}
 	return parts, nil
 }

@@ -19,13 +19,15 @@ func find(t *testing.T, e *Engine, way int, words string, k int, want string, ra
 }
 
 // findAllWays holds way 0 against what it must answer, and the other ways against
-// way 0.
+// it: they rate no more than the way ahead.
 func findAllWays(t *testing.T, e *Engine, words string, k int, want string, rated int) {
 	t.Helper()
 	find(t, e, 0, words, k, want, rated, OK)
 	for way := 1; way <= 2; way++ {
 		if s, n, errno := e.Search(way, words, k); s != want || n > rated || n < 0 || errno != OK {
 			t.Errorf("P7: Search(%d, %q, %d) = %q, %d, %d, want %q, at most %d", way, words, k, s, n, errno, want, rated)
+		} else {
+			rated = n
 		}
 	}
 }
@@ -183,7 +185,9 @@ func TestSearchOfSpoiltSegments(t *testing.T) {
 	e := example(t)
 	for _, spoilt := range []string{"", "SG", sealed(three) + "\x00"} {
 		e.segments = []string{sealed(three), spoilt}
-		find(t, e, 0, "red", 9, "", 0, ErrCorrupt)
+		for way := range 3 {
+			find(t, e, way, "red", 9, "", 0, ErrCorrupt)
+		}
 	}
 }
 

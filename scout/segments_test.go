@@ -269,7 +269,7 @@ func told(documents []kept) (string, segment.Content) {
 			out += fmt.Sprintf(",%d*%d", p.Ordinal, p.Count)
 		}
 		out += ";"
-		c.Lists = append(c.Lists, segment.List{Token: w, Places: places[w]})
+		c.Lists = append(c.Lists, segment.ListOf(w, places[w], c.Documents))
 	}
 	return out, c
 }

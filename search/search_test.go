@@ -33,7 +33,9 @@ func partOf(texts ...string) Part {
 			places[word] = append(places[word], segment.Place{Ordinal: ordinal, Count: count})
 		}
 	}
-	part.Places = func(token string) []segment.Place { return places[token] }
+	part.List = func(token string) segment.List {
+		return segment.ListOf(token, places[token], part.Documents)
+	}
 	return part
 }
 
@@ -42,18 +44,31 @@ func liveBut(dead ...int) func(document.Document) bool {
 	return func(d document.Document) bool { return !slices.Contains(dead, d.Number) }
 }
 
-func check(t *testing.T, parts []Part, tokens string, isLive func(document.Document) bool, k int, want string, rated int) {
+// ask asks by a way for the best k, and tells them as P7 does.
+func ask(t *testing.T, parts []Part, way int, tokens string, isLive func(document.Document) bool, k int) (string, int) {
 	t.Helper()
-	hits, n := Best(parts, strings.Fields(tokens), isLive, k)
-	var got []string
+	hits, rated := Best(parts, isLive, Question{Way: way, Tokens: strings.Fields(tokens), Most: k})
+	var told []string
 	for _, hit := range hits {
-		got = append(got, fmt.Sprintf("%s=%d", hit.Key, hit.Worth))
+		told = append(told, fmt.Sprintf("%s=%d", hit.Key, hit.Worth))
 		if hit.Key != fmt.Sprintf("k%d", hit.Number) {
 			t.Errorf("P7: the number of %s is %d", hit.Key, hit.Number)
 		}
 	}
-	if s := strings.Join(got, ","); s != want || n != rated {
-		t.Errorf("P7: the best %d for %q: %q, %d, want %q, %d", k, tokens, s, n, want, rated)
+	return strings.Join(told, ","), rated
+}
+
+// check asks by all ways; way 0 rates as many documents as are told, the others
+// no more than the one ahead.
+func check(t *testing.T, parts []Part, tokens string, isLive func(document.Document) bool, k int, want string, rated int) {
+	t.Helper()
+	most := rated
+	for way := range 3 {
+		s, n := ask(t, parts, way, tokens, isLive, k)
+		if s != want || n > most || n < 0 || (way == 0 && n != rated) {
+			t.Errorf("P7: by way %d the best %d for %q: %q, %d, want %q, at most %d", way, k, tokens, s, n, want, most)
+		}
+		most = n
 	}
 }
 
@@ -79,8 +94,9 @@ func TestExample(t *testing.T) {
 		check(t, parts, "blue", all, most, "k2=11988774,k1=7554528", 2)
 		check(t, parts, "blue", all, 2, "k2=11988774,k1=7554528", 2)
 		check(t, parts, "blue", all, 1, "k2=11988774", 2)
-		check(t, parts, "blue", all, 0, "", 2)
-		check(t, parts, "blue", all, -most-1, "", 2)
+		check(t, parts, "blue", all, 0, "", 0)
+		check(t, parts, "blue", all, -1, "", 0)
+		check(t, parts, "blue", all, -most-1, "", 0)
 		check(t, parts, "red blue", all, 1, "k1=32638488", 2)
 		check(t, parts, "red blue green", all, 9, "k1=32638488,k3="+fmt.Sprint(341*78358)+",k2=11988774", 3)
 		check(t, parts, "yellow", all, 9, "", 0)
@@ -100,7 +116,9 @@ func TestDeadDocuments(t *testing.T) {
 		check(t, c, "red", liveBut(4, 5), 9, "k1=25083960", 1)
 		check(t, c, "blue", liveBut(4, 5), 9, "k2=11988774,k1=7554528", 2)
 		check(t, c, "red blue green", liveBut(1, 2, 3, 4, 5), 9, "", 0)
+		check(t, c, "red blue green", liveBut(1, 2, 3, 4, 5), 1, "", 0)
 	}
+	check(t, []Part{partOf("1 red", "2", "3 blue red")}, "red blue", liveBut(1, 3), 9, "", 0)
 }
 
 func TestNothingToSearch(t *testing.T) {
@@ -117,13 +135,15 @@ func TestTies(t *testing.T) {
 		{partOf("2 x y", "4 x y"), partOf("1 x y", "3 x y")},
 	} {
 		for k := 1; k <= 4; k++ {
-			hits, rated := Best(parts, []string{"x"}, liveBut(), k)
-			if len(hits) != k || rated != 4 {
-				t.Fatalf("P7: %d hits, %d rated, want %d, 4", len(hits), rated, k)
-			}
-			for i, hit := range hits {
-				if hit.Number != i+1 || hit.Worth != hits[0].Worth {
-					t.Errorf("P7: the hit %d is %v", i, hit)
+			for way := range 3 {
+				hits, rated := Best(parts, liveBut(), Question{Way: way, Tokens: []string{"x"}, Most: k})
+				if len(hits) != k || rated != 4 {
+					t.Fatalf("P7: by way %d %d hits, %d rated, want %d, 4", way, len(hits), rated, k)
+				}
+				for i, hit := range hits {
+					if hit.Number != i+1 || hit.Worth != hits[0].Worth {
+						t.Errorf("P7: by way %d the hit %d is %v", way, i, hit)
+					}
 				}
 			}
 		}
@@ -144,15 +164,18 @@ func TestWorthNothing(t *testing.T) {
 // first, and closes.
 func TestSend(t *testing.T) {
 	part := partOf("1 x y y", "2 x", "3 z", "4 x x x", "5 x", "6 y")
-	r := raterFor([]Part{part}, []string{"x", "y"}, liveBut(5))
-	stream := make(chan Hit, len(part.Documents))
-	rated := r.send(part, stream)
-	var hits []Hit
-	for hit := range stream {
-		hits = append(hits, hit)
-	}
-	if rated != 4 || len(hits) != 4 || !slices.IsSortedFunc(hits, compareHits) {
-		t.Errorf("Ways: %d rated, sent %v", rated, hits)
+	tokens := []string{"x", "y"}
+	r := raterFor([]Part{part}, liveBut(5), tokens)
+	for way := range 3 {
+		stream := make(chan Hit, len(part.Documents))
+		rated := newWalk(r, part, Question{Way: way, Tokens: tokens, Most: 4}).send(stream)
+		var hits []Hit
+		for hit := range stream {
+			hits = append(hits, hit)
+		}
+		if rated != 4 || len(hits) != 4 || !slices.IsSortedFunc(hits, compareHits) {
+			t.Errorf("Ways: by way %d %d rated, sent %v", way, rated, hits)
+		}
 	}
 }
 
@@ -192,9 +215,10 @@ func TestWaitsForWhoStillSends(t *testing.T) {
 		texts = append(texts, fmt.Sprint(2*i+1, " x"), fmt.Sprint(2*i+2, " y"))
 	}
 	parts := []Part{partOf(texts...), partOf("10001 x")}
-	for range 20 {
-		if hits, rated := Best(parts, []string{"x"}, liveBut(), 1); len(hits) != 1 || hits[0].Number != 1 || rated != 5001 {
-			t.Fatalf("P7: found %v, %d rated", hits, rated)
+	for i := range 30 {
+		hits, rated := Best(parts, liveBut(), Question{Way: i % 3, Tokens: []string{"x"}, Most: 1})
+		if len(hits) != 1 || hits[0].Number != 1 || rated != 5001 {
+			t.Fatalf("P7: by way %d found %v, %d rated", i%3, hits, rated)
 		}
 	}
 }
@@ -206,8 +230,9 @@ func TestAllGoroutinesHaveEnded(t *testing.T) {
 	}
 	before := runtime.NumGoroutine()
 	for k := range 30 {
-		if hits, rated := Best(parts, []string{"x", "y"}, liveBut(), k); len(hits) != k || rated != 200 {
-			t.Fatalf("P7: %d hits, %d rated", len(hits), rated)
+		hits, rated := Best(parts, liveBut(), Question{Way: k % 3, Tokens: []string{"x", "y"}, Most: k})
+		if len(hits) != k || rated > 200 || (k%3 == 0 && rated != min(k, 1)*200) {
+			t.Fatalf("P7: by way %d %d hits, %d rated", k%3, len(hits), rated)
 		}
 	}
 	// One that has said that it is done may still be on its way out.

@@ -35,7 +35,7 @@ func contentOf(models ...model) Content {
 		}
 	}
 	for _, word := range slices.Sorted(maps.Keys(counts)) {
-		c.Lists = append(c.Lists, List{Token: word, Places: counts[word]})
+		c.Lists = append(c.Lists, ListOf(word, counts[word], c.Documents))
 	}
 	return c
 }

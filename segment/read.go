@@ -125,11 +125,11 @@ func (p *parser) readList(before string) (List, error) {
 	if err != nil {
 		return List{}, err
 	}
-	places, err := p.readPlaces()
-	if err != nil {
+	list := List{Token: token}
+	if err := p.readBlocks(&list); err != nil {
 		return List{}, err
 	}
-	return List{Token: token, Places: places}, nil
+	return list, nil
 }
 
 func (p *parser) readToken(before string) (string, error) {
@@ -144,30 +144,61 @@ func (p *parser) readToken(before string) (string, error) {
 	return token, nil
 }
 
-func (p *parser) readPlaces() ([]Place, error) {
+func (p *parser) readBlocks(list *List) error {
 	count, err := p.number(1, len(p.content.Documents))
 	if err != nil {
-		return nil, err
+		return err
 	}
-	var places []Place
-	for i := 0; len(places) < count; i++ {
-		block, err := p.readBlock(min(Block, count-len(places)), nextOrdinal(places))
+	next := 0
+	for i := 0; len(list.Places) < count; i++ {
+		head, block, err := p.readBlock(min(Block, count-len(list.Places)), next)
 		if err != nil {
-			return nil, inOneOf("block", i, err)
+			return inOneOf("block", i, err)
 		}
-		places = append(places, block...)
+		list.Heads = append(list.Heads, head)
+		list.Places = append(list.Places, block...)
+		next = head.Last + 1
 	}
-	return places, nil
+	return nil
 }
 
-// readBlock reads some places, whose first ordinal is next or greater.
-func (p *parser) readBlock(size, next int) ([]Place, error) {
+// readBlock reads a head and some places, whose first ordinal is next or greater.
+func (p *parser) readBlock(size, next int) (Head, []Place, error) {
 	from := p.at
-	told, err := p.readHead()
+	head, err := p.readHead()
 	if err != nil {
-		return nil, err
+		return Head{}, nil, err
 	}
-	body := p.at
+	block, err := p.readPlaces(size, next)
+	if err != nil {
+		return Head{}, nil, err
+	}
+	if head != headOf(block, p.content.Documents) {
+		return Head{}, nil, &AtByte{Byte: from, Err: ErrSum}
+	}
+	return head, block, nil
+}
+
+func (p *parser) readHead() (Head, error) {
+	last, err := p.number(0, len(p.content.Documents)-1)
+	if err != nil {
+		return Head{}, err
+	}
+	greatest, err := p.number(1, document.MaxTokens)
+	if err != nil {
+		return Head{}, err
+	}
+	least, err := p.number(1, document.MaxTokens)
+	if err != nil {
+		return Head{}, err
+	}
+	return Head{Last: last, Greatest: greatest, Least: least}, nil
+}
+
+// readPlaces reads the places of a block. A step is counted from the least
+// ordinal that may follow.
+func (p *parser) readPlaces(size, next int) ([]Place, error) {
+	from := p.at
 	steps, repeats, err := p.readBody(size)
 	if err != nil {
 		return nil, err
@@ -176,31 +207,12 @@ func (p *parser) readBlock(size, next int) ([]Place, error) {
 	for i, step := range steps {
 		ordinal := next + step
 		if ordinal >= len(p.content.Documents) {
-			return nil, &AtByte{Byte: body, Err: ErrBound}
+			return nil, &AtByte{Byte: from, Err: ErrBound}
 		}
 		block = append(block, Place{Ordinal: ordinal, Count: repeats[i] + 1})
 		next = ordinal + 1
 	}
-	if told != headOf(block, p.content.Documents) {
-		return nil, &AtByte{Byte: from, Err: ErrSum}
-	}
 	return block, nil
-}
-
-func (p *parser) readHead() (head, error) {
-	last, err := p.number(0, len(p.content.Documents)-1)
-	if err != nil {
-		return head{}, err
-	}
-	greatest, err := p.number(1, document.MaxTokens)
-	if err != nil {
-		return head{}, err
-	}
-	least, err := p.number(1, document.MaxTokens)
-	if err != nil {
-		return head{}, err
-	}
-	return head{last: last, greatest: greatest, least: least}, nil
 }
 
 // readBody reads the steps of a block's documents, and their counts less 1.

@@ -185,7 +185,7 @@ func packedBody() (docs, x string) {
 
 func TestReadWrongPackedBlocks(t *testing.T) {
 	docs, x := packedBody()
-	if c, err := Read(sealed(docs + x)); err != nil || fmt.Sprint(c.Lists) != "[{x [{0 1} {1 1} {2 3} {3 1} {4 1} {5 2}]}]" {
+	if c, err := Read(sealed(docs + x)); err != nil || fmt.Sprint(c.Lists) != "[{x [{0 1} {1 1} {2 3} {3 1} {4 1} {5 2}] [{3 3 1} {5 2 1}]}]" {
 		t.Fatalf("P4: Read = %v, %v", c, err)
 	}
 	from := len(docs)

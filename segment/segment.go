@@ -25,10 +25,12 @@ type Content struct {
 	Lists     []List
 }
 
-// List tells which documents have a word, by rising ordinal: one or more.
+// List tells which documents have a word, by rising ordinal: one or more. They
+// are cut into blocks, and each block has a head.
 type List struct {
 	Token  string
 	Places []Place
+	Heads  []Head
 }
 
 // Place tells of a word that a document has it, and how often. The ordinal is
@@ -38,41 +40,46 @@ type Place struct {
 	Count   int
 }
 
-// Places tells where a token stands: nowhere, if no document has it.
-func (c Content) Places(token string) []Place {
+// Head bounds what the documents of a block can be worth.
+type Head struct {
+	Last     int // ordinal
+	Greatest int // count
+	Least    int // length
+}
+
+// ListOf cuts the places of a token into blocks.
+func ListOf(token string, places []Place, documents []document.Document) List {
+	list := List{Token: token, Places: places}
+	for block := range slices.Chunk(places, Block) {
+		list.Heads = append(list.Heads, headOf(block, documents))
+	}
+	return list
+}
+
+// List tells where a token stands: nowhere, if no document has it.
+func (c Content) List(token string) List {
 	at, found := slices.BinarySearchFunc(c.Lists, token, func(list List, token string) int {
 		return strings.Compare(list.Token, token)
 	})
 	if !found {
-		return nil
+		return List{}
 	}
-	return c.Lists[at].Places
+	return c.Lists[at]
 }
 
-// head is what a block tells of itself ahead of its places.
-type head struct {
-	last     int // ordinal
-	greatest int // count
-	least    int // length
-}
-
-func headOf(places []Place, documents []document.Document) head {
-	h := head{least: document.MaxTokens}
-	for _, p := range places {
-		h.last = p.Ordinal
-		h.greatest = max(h.greatest, p.Count)
-		h.least = min(h.least, documents[p.Ordinal].Length)
+func headOf(block []Place, documents []document.Document) Head {
+	h := Head{Least: document.MaxTokens}
+	for _, p := range block {
+		h.Last = p.Ordinal
+		h.Greatest = max(h.Greatest, p.Count)
+		h.Least = min(h.Least, documents[p.Ordinal].Length)
 	}
 	return h
 }
 
-// nextOrdinal tells the least ordinal that may follow these places: a step is
-// counted from there.
-func nextOrdinal(places []Place) int {
-	if len(places) == 0 {
-		return 0
-	}
-	return places[len(places)-1].Ordinal + 1
+// block tells the places of the block with this index.
+func (l List) block(i int) []Place {
+	return l.Places[i*Block : min((i+1)*Block, len(l.Places))]
 }
 
 // checkOf tells the check of all bytes ahead of it.

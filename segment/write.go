@@ -1,17 +1,13 @@
 package segment
 
-import (
-	"slices"
-
-	"scout/document"
-)
+import "scout/document"
 
 // Write tells the bytes of a segment with this content.
 func Write(c Content) string {
 	text := appendDocuments([]byte(mark), c.Documents)
 	text = appendVarint(text, len(c.Lists))
 	for _, list := range c.Lists {
-		text = appendList(text, list, c.Documents)
+		text = appendList(text, list)
 	}
 	return string(text) + checkOf(string(text))
 }
@@ -33,22 +29,22 @@ func appendName(text []byte, name string) []byte {
 	return append(text, name...)
 }
 
-func appendList(text []byte, list List, documents []document.Document) []byte {
+func appendList(text []byte, list List) []byte {
 	text = appendName(text, list.Token)
 	text = appendVarint(text, len(list.Places))
 	next := 0
-	for block := range slices.Chunk(list.Places, Block) {
-		text = appendHead(text, headOf(block, documents))
-		text = appendBody(text, block, next)
-		next = nextOrdinal(block)
+	for i, head := range list.Heads {
+		text = appendHead(text, head)
+		text = appendBody(text, list.block(i), next)
+		next = head.Last + 1
 	}
 	return text
 }
 
-func appendHead(text []byte, h head) []byte {
-	text = appendVarint(text, h.last)
-	text = appendVarint(text, h.greatest)
-	return appendVarint(text, h.least)
+func appendHead(text []byte, h Head) []byte {
+	text = appendVarint(text, h.Last)
+	text = appendVarint(text, h.Greatest)
+	return appendVarint(text, h.Least)
 }
 
 func appendBody(text []byte, block []Place, next int) []byte {

@@ -135,25 +135,44 @@ func TestVarints(t *testing.T) {
 	}
 }
 
-func TestPlaces(t *testing.T) {
+func TestListsOfTokens(t *testing.T) {
 	c := threeContent()
 	for token, want := range map[string]string{
-		"blue": "[{0 1} {1 1}]", "green": "[{2 1}]", "red": "[{0 2}]",
-		"": "[]", "a": "[]", "blu": "[]", "bluer": "[]", "grey": "[]", "zoo": "[]", "Red": "[]", "é": "[]",
+		"blue": "{blue [{0 1} {1 1}] [{1 1 1}]}", "green": "{green [{2 1}] [{2 1 1}]}", "red": "{red [{0 2}] [{0 2 3}]}",
+		"": "{ [] []}", "a": "{ [] []}", "blu": "{ [] []}", "bluer": "{ [] []}", "grey": "{ [] []}", "zoo": "{ [] []}", "Red": "{ [] []}", "é": "{ [] []}",
 	} {
-		if got := fmt.Sprint(c.Places(token)); got != want {
+		if got := fmt.Sprint(c.List(token)); got != want {
 			t.Errorf("P7: %q stands at %s, want %s", token, got, want)
 		}
 	}
-	if got := contentOf(model{1, "k", ""}).Places("red"); len(got) != 0 {
+	if got := contentOf(model{1, "k", ""}).List("red"); len(got.Places) != 0 || len(got.Heads) != 0 {
 		t.Errorf("P7: where there is no token, one stands at %v", got)
 	}
 	for seed := range 50 {
 		c := drawn(seed)
 		for _, list := range c.Lists {
-			if got := c.Places(list.Token); fmt.Sprint(got) != fmt.Sprint(list.Places) {
-				t.Errorf("P7: %q stands at %v, want %v", list.Token, got, list.Places)
+			if got := c.List(list.Token); fmt.Sprint(got) != fmt.Sprint(list) {
+				t.Errorf("P7: %q stands at %v, want %v", list.Token, got, list)
 			}
 		}
+	}
+}
+
+// A head bounds its own block alone, from both sides.
+func TestHeads(t *testing.T) {
+	var models []model
+	for i, words := range []string{"x y", "", "x x", "x x x y y", "x", "x x y y", "x y y y y", "x x x x", "x y y", "z", "x x x x x x"} {
+		models = append(models, model{i + 1, fmt.Sprintf("k%d", i), words})
+	}
+	c := contentOf(models...)
+	for token, want := range map[string]string{
+		"x": "[{4 3 1} {8 4 3} {10 6 6}]", "y": "[{6 4 2} {8 2 3}]", "z": "[{9 1 1}]",
+	} {
+		if got := fmt.Sprint(c.List(token).Heads); got != want {
+			t.Errorf("P6: the heads of %q are %s, want %s", token, got, want)
+		}
+	}
+	if got := ListOf("x", nil, c.Documents); len(got.Heads) != 0 {
+		t.Errorf("P6: a token that no document has has the heads %v", got.Heads)
 	}
 }

@@ -15,10 +15,10 @@ func (w Whole) Weight(having int) int {
 }
 
 // Worth tells what a document of this length is worth for a token of this
-// weight that it has so often. Without the token there may be no length at all
-// to divide by.
+// weight that it has so often. If no live document has a token there may be
+// nothing to divide by; what is live no more can be asked for even then.
 func (w Whole) Worth(weight, count, length int) int {
-	if count == 0 {
+	if w.Length == 0 {
 		return 0
 	}
 	all := count * w.Length

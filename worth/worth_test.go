@@ -67,6 +67,36 @@ func TestNothingIsWorthNothing(t *testing.T) {
 	}
 }
 
+// Where no live document has a token, one that is live no more may still be asked
+// for.
+func TestNoLengthAtAll(t *testing.T) {
+	for _, w := range []Whole{{}, {Documents: 1}, {Documents: 100}} {
+		for _, count := range []int{0, 1, 40} {
+			if got := w.Worth(w.Weight(0), count, count); got != 0 {
+				t.Errorf("P7: a count of %d is worth %d in %v", count, got, w)
+			}
+		}
+	}
+}
+
+// A head's greatest count and least length bound what its documents are worth
+// only if this is so.
+func TestWorthRisesWithCountAndFallsWithLength(t *testing.T) {
+	for _, w := range []Whole{{1, 40}, {2, 41}, {7, 90}, {100, 40}, {100, 4000}} {
+		for length := 1; length <= 40; length++ {
+			for count := 1; count <= length; count++ {
+				got := w.Worth(341, count, length)
+				if more := w.Worth(341, count+1, length); more < got {
+					t.Errorf("P7: in %v, of length %d, a count of %d is worth %d, one more %d", w, length, count, got, more)
+				}
+				if longer := w.Worth(341, count, length+1); longer > got {
+					t.Errorf("P7: in %v, a count of %d in the length %d is worth %d, in one more %d", w, count, length, got, longer)
+				}
+			}
+		}
+	}
+}
+
 // At the bounds of all numbers the worth is still what the document says.
 func TestWorthAtTheBounds(t *testing.T) {
 	for _, n := range []int{1, 2, 50, 99, 100} {
